@@ -1,0 +1,1 @@
+"""Samescreen: a terminal, and updates of its screen with the fewest bytes."""

@@ -1,0 +1,1 @@
+"""Screens and the deeds that change them."""

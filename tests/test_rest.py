@@ -88,6 +88,10 @@ class Reset(ScreenCase):
             after = self.result_of(made(texts=texts, cursor=(0, 1)), ("reset",))
             self.assert_same(after, start_screen(len(texts), len(texts[0])))
 
+    def test_a_screen_beyond_the_limits_raises_no_error(self):
+        after = carry_out(made(texts=("abcdefghi" * 5,) * 13, cursor=(12, 45)), ("reset",))
+        self.assert_same(after, ([[(" ", 0)] * 45] * 13, (0, 0), 0, (0, 12), True, (0, 0, 0), []))
+
 
 class NoDeeds(ScreenCase):
     def test_they_are_refused_and_change_nothing(self):

@@ -30,6 +30,11 @@ def changed(screen, **parts):
     return tuple(values[name] for name in PARTS)
 
 
+def codes(text):
+    """The bytes of a text."""
+    return [ord(char) for char in text]
+
+
 def lists_in(value):
     """All lists in a value, itself included."""
     found = [value] if isinstance(value, list) else []

@@ -20,10 +20,45 @@ FUNCTIONS = {
         "carry_out": ("screen", "deed"),
         "carry_out_all": ("screen", "deeds"),
     },
+    "samescreen.deeds.writing": {
+        "bytes_of": ("deed",),
+        "bytes_of_all": ("deeds",),
+        "size_of": ("deed",),
+    },
+    "samescreen.deeds.meaning": {
+        "deed_of_byte": ("byte",),
+        "deed_of_letter": ("letter", "numbers"),
+        "deed_of_sign": ("byte",),
+    },
+    "samescreen.reading.reader": {
+        "read": ("data",),
+        "spans": ("data",),
+        "rest_of": ("data",),
+    },
 }
 
 CLASSES = {
     "samescreen.errors": ("ScreenError", "OutOfRange", "NotADeed", "OtherSize", "NoStep", "NoMove"),
+    "samescreen.reading.reader": ("Reader",),
+    "samescreen.reading.viewer": ("Viewer",),
+}
+
+METHODS = {
+    ("samescreen.reading.reader", "Reader"): {
+        "__init__": (),
+        "feed": ("part",),
+        "rest": (),
+        "taken": (),
+        "given": (),
+        "copy": (),
+    },
+    ("samescreen.reading.viewer", "Viewer"): {
+        "__init__": ("rows", "columns"),
+        "feed": ("part",),
+        "screen": (),
+        "rest": (),
+        "copy": (),
+    },
 }
 
 
@@ -41,6 +76,13 @@ class Interface(unittest.TestCase):
             module = importlib.import_module(name)
             for told in classes:
                 self.assertEqual(getattr(module, told).__module__, name)
+
+    def test_methods_stand_in_their_class(self):
+        for (name, told), methods in METHODS.items():
+            found = vars(getattr(importlib.import_module(name), told))
+            for method, arguments in methods.items():
+                self.assertTrue(inspect.isfunction(found.get(method)), (told, method))
+                self.assertEqual(tuple(inspect.signature(found[method]).parameters), ("self", *arguments))
 
 
 class Files(unittest.TestCase):

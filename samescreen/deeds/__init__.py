@@ -1,0 +1,1 @@
+"""Deeds as bytes: how they are written, and what bytes mean."""

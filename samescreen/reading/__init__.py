@@ -1,0 +1,1 @@
+"""Bytes that are read as deeds, in any pieces."""

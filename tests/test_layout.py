@@ -35,6 +35,19 @@ FUNCTIONS = {
         "spans": ("data",),
         "rest_of": ("data",),
     },
+    "samescreen.moves.moves": {
+        "moves_from": ("size", "band", "cursor"),
+        "place_after": ("size", "band", "cursor", "moves"),
+    },
+    "samescreen.moves.least": {
+        "least_moves": ("size", "band", "cursor", "place"),
+        "move_map": ("size", "band", "cursor"),
+        "check_moves": ("size", "band", "cursor", "place", "moves", "numbers"),
+    },
+    "samescreen.updates.steps": {
+        "first_situation": ("p",),
+        "steps": ("p", "q", "situation"),
+    },
 }
 
 CLASSES = {

@@ -64,6 +64,11 @@ def tested_bytes(deed):
     return [ESCAPE] + [ord(char) for char in "[" + numbers_text(deed) + LETTERS[deed[0]]]
 
 
+def tested_size(deeds):
+    """Return the number of the bytes of what are known to be deeds."""
+    return sum([len(tested_bytes(deed)) for deed in deeds])
+
+
 def numbers_text(deed):
     """Return what stands between the bracket and the letter of a long sequence."""
     word, *values = deed

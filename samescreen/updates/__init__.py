@@ -1,0 +1,1 @@
+"""Updates that turn the look of one screen into that of another."""

@@ -3,6 +3,7 @@
 import copy
 import unittest
 
+from samescreen.errors import OutOfRange
 from samescreen.screens.deeds import carry_out
 from samescreen.screens.screen import is_screen
 
@@ -65,6 +66,19 @@ class ScreenCase(unittest.TestCase):
         self.assertEqual(len(ids), len(set(ids)), "a list occurs twice")
         foreign = [id(part) for other in others for part in lists_in(other)]
         self.assertFalse(set(ids) & set(foreign), "a list is shared")
+
+    def assert_sizes_refused(self, make):
+        """What is made with rows and columns is not made with numbers out of range."""
+        for rows in (-2 ** 40, -1, 0, 1, 12, 13, 2 ** 32):
+            for columns in (-2 ** 40, -1, 0, 1, 40, 41, 2 ** 32):
+                wanted = [0] * (not 1 <= rows <= 12) + [1] * (not 1 <= columns <= 40)
+                with self.subTest(rows=rows, columns=columns):
+                    if not wanted:
+                        make(rows, columns)
+                        continue
+                    with self.assertRaises(OutOfRange) as caught:
+                        make(rows, columns)
+                    self.assertEqual(caught.exception.at, wanted[0])
 
     def result_of(self, screen, deed):
         """The screen after the deed, tested for what holds after every deed."""

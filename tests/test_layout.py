@@ -48,12 +48,26 @@ FUNCTIONS = {
         "first_situation": ("p",),
         "steps": ("p", "q", "situation"),
     },
+    "samescreen.updates.plans": {
+        "least_size": ("p", "q"),
+        "told_plan": ("p", "q"),
+        "told_update": ("p", "q"),
+        "plan_deeds": ("p", "q", "words"),
+    },
+    "samescreen.checks.papers": {
+        "tight_paper": ("p", "q"),
+        "is_bound": ("p", "q", "paper"),
+        "check_update": ("p", "q", "deeds", "paper"),
+        "saving": ("p", "q"),
+    },
 }
 
 CLASSES = {
     "samescreen.errors": ("ScreenError", "OutOfRange", "NotADeed", "OtherSize", "NoStep", "NoMove"),
     "samescreen.reading.reader": ("Reader",),
     "samescreen.reading.viewer": ("Viewer",),
+    "samescreen.links.painter": ("Painter",),
+    "samescreen.links.link": ("Link",),
 }
 
 METHODS = {
@@ -71,6 +85,23 @@ METHODS = {
         "screen": (),
         "rest": (),
         "copy": (),
+    },
+    ("samescreen.links.painter", "Painter"): {
+        "__init__": ("rows", "columns"),
+        "paint": ("target",),
+        "do": ("deed",),
+        "screen": (),
+        "written": (),
+        "copy": (),
+    },
+    ("samescreen.links.link", "Link"): {
+        "__init__": ("rows", "columns"),
+        "paint": ("target",),
+        "do": ("deed",),
+        "carry": ("count",),
+        "pending": (),
+        "present": (),
+        "shown": (),
     },
 }
 

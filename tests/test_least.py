@@ -65,6 +65,14 @@ class Least(ScreenCase):
         self.gives((12, 40), whole, (7, 30), (0, 0), ("go", 0, 0))
         self.gives((12, 40), whole, (11, 30), (9, 8), ("go", 9, 0), ("tab",))
 
+    def test_from_edge_to_edge(self):
+        self.gives((1, 40), (0, 0), (0, 0), (0, 39), ("right", 39))
+        for size in [(1, columns) for columns in range(2, 41)] + [(rows, 1) for rows in range(2, 13)]:
+            last = (size[0] - 1, size[1] - 1)
+            for cursor, place in (((0, 0), last), (last, (0, 0))):
+                wanted = moves_model.told(size, (0, 0), cursor)[place][3]
+                self.gives(size, (0, 0), cursor, place, *wanted)
+
     def test_from_behind_the_last_column(self):
         whole = (0, 2)
         self.gives((3, 9), whole, (1, 9), (1, 8), ("tab",))
@@ -214,6 +222,9 @@ class Checks(ScreenCase):
             for key in ((0, 3), (2, 0), (2, 3), (0, -1), (-1, 0), (2 ** 32, 0), (0, 40)):
                 for number in (0, 5, 8):
                     self.refused(size, band, cursor, (0, 0), moves, {**numbers, key: number})
+                for missing in numbers:
+                    swapped = {key if old == missing else old: numbers[old] for old in numbers}
+                    self.refused(size, band, cursor, (0, 0), moves, swapped)
             self.refused(size, band, cursor, (0, 0), moves, {})
 
     def test_another_cursor(self):

@@ -1,5 +1,6 @@
 """A second telling of points 501 to 505: the steps, straight from the words of the document."""
 
+from samescreen.deeds.writing import bytes_of
 from tests import moves_model
 
 
@@ -63,3 +64,50 @@ def situations_of(p, q):
                 seen.add(after)
                 found.append(after)
     return found
+
+
+def size_of_deeds(deeds):
+    return sum(len(bytes_of(deed)) for deed in deeds)
+
+
+def all_plans(p, q, situation=None):
+    """All plans from a situation on, each as its words and its deeds; the steps in their order."""
+    if situation is None:
+        situation = (0, p[1], p[2])
+    for word, deeds, after in steps(p, q, situation):
+        if after is None:
+            yield [word], deeds
+            continue
+        for words, more in all_plans(p, q, after):
+            yield [word] + words, deeds + more
+
+
+def least_rests(p, q):
+    """For each situation that steps lead to: the least size to the end, and the first words and deeds with it."""
+    found = {}
+    for situation in sorted(situations_of(p, q), reverse=True):
+        ways = []
+        for word, deeds, after in steps(p, q, situation):
+            size, words, more = found[after] if after is not None else (0, [], [])
+            ways.append((size_of_deeds(deeds) + size, [word] + words, deeds + more))
+        found[situation] = min(ways, key=lambda way: way[0])
+    return found
+
+
+def tight(p, q):
+    """The paper of point 604."""
+    return {situation: way[0] for situation, way in least_rests(p, q).items()}
+
+
+def is_bound(p, q, paper):
+    """Point 602, situation by situation."""
+    rows, columns = size_of_screen(p)
+    cursors = moves_model.cursors_of((rows, columns))
+    for (i, cursor, pen), number in paper.items():
+        if not 0 <= i <= rows * columns or cursor not in cursors or not 0 <= pen <= 15 or number < 0:
+            return False
+        for _, deeds, after in steps(p, q, (i, cursor, pen)):
+            rest = 0 if after is None else paper.get(after)
+            if rest is None or number > size_of_deeds(deeds) + rest:
+                return False
+    return (0, p[1], p[2]) in paper

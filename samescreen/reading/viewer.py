@@ -15,10 +15,14 @@ class Viewer:
 
     def feed(self, part):
         """Read further bytes and carry out their deeds; return how many there were."""
+        return len(self.follow(part))
+
+    def follow(self, part):
+        """Read further bytes and carry out their deeds; return these deeds."""
         deeds = self.reader.feed(part)
         for deed in deeds:
             act(self.board, deed)
-        return len(deeds)
+        return deeds
 
     def screen(self):
         """Return the screen."""

@@ -37,7 +37,7 @@ class Change:
         self.pen_sizes = {pen: tested_size([("pen", pen)]) for pen in [q[2]] + [cell[1] for cell in new]}
         self.goal_cursor = q[1]
         self.arrival = Step("end", None, q[2], [], None)
-        self.last_step = last_step(q)
+        self.last_step = end_step(q)
 
     def steps_from(self, situation):
         """Return all steps from a situation, in the order of the document."""
@@ -47,6 +47,32 @@ class Change:
         if self.same[i]:
             return [Step("leave", None, pen, [], (i + 1, cursor, pen))] + self.cell_steps[i]
         return list(self.cell_steps[i])
+
+    def priced_steps(self, situation):
+        """Return the sizes of all steps from a situation, each with the next situation."""
+        i, cursor, pen = situation
+        if i >= self.cell_count:
+            return [(self.size_of_step(self.end_from(cursor), situation), None)]
+        steps = self.cell_steps[i]
+        # All of them reach the same place with the same pen first.
+        reach = self.reach_size(steps[0], situation)
+        priced = [(reach + step.tail_size, step.after) for step in steps]
+        if self.same[i]:
+            priced.append((0, (i + 1, cursor, pen)))
+        return priced
+
+    def layers_from(self, first):
+        """Return the situations that steps lead to from the first one, by their indexes."""
+        layers = [{} for _ in range(self.cell_count + 1)]
+        layers[0][first] = True
+        for i in range(self.cell_count):
+            # These lead to the same situations wherever the cursor is.
+            for step in self.cell_steps[i]:
+                layers[step.after[0]][step.after] = True
+            if self.same[i]:
+                for _, cursor, pen in list(layers[i]):
+                    layers[i + 1][(i + 1, cursor, pen)] = True
+        return layers
 
     def end_from(self, cursor):
         """Return the step that ends a plan from a cursor."""
@@ -117,7 +143,7 @@ def blank_stops(cells):
     return stops
 
 
-def last_step(q):
+def end_step(q):
     """Return the end of a plan from all cursors but that of Q."""
     cells, (row, column), pen = q[:3]
     if column < len(cells[row]):

@@ -1,0 +1,1 @@
+"""Checks that updates have the fewest bytes."""

@@ -1,0 +1,1 @@
+"""Painters, and links that carry what they write."""

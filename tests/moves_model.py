@@ -82,7 +82,7 @@ def least_numbers(size, band, cursor):
 
 def proves(size, band, cursor, place, moves, numbers):
     """The check of point 405, number by number."""
-    if set(numbers) != {cursor, *places_of(size)} or numbers[cursor] != 0 or min(numbers.values()) < 0:
+    if set(numbers) != {cursor, *places_of(size)} or numbers[cursor] != 0:
         return False
     for here in numbers:
         for _, there, data in landings(size, band, here):

@@ -177,7 +177,7 @@ class Checks(ScreenCase):
                 for key in numbers:
                     for number in (numbers[key] + 1, numbers[key] + 1000, 2 ** 32 - 1, numbers[key] - 1, 0, -1, -2 ** 40):
                         found = self.check(size, band, cursor, place, moves, {**numbers, key: number})
-                        if number > numbers[key] or number < 0:
+                        if number > numbers[key] or number == -2 ** 40:
                             self.assertIs(found, False)
                 for key in numbers:
                     self.refused(size, band, cursor, place, moves, {k: numbers[k] for k in numbers if k != key})
@@ -200,8 +200,45 @@ class Checks(ScreenCase):
         size, band, cursor = (1, 3), (0, 0), (0, 0)
         lesser = {(0, 0): 0, (0, 1): 0, (0, 2): 0}
         self.assertIs(self.check(size, band, cursor, (0, 0), [], lesser), True)
-        self.refused(size, band, cursor, (0, 0), [], {**lesser, (0, 2): -1})
+        self.assertIs(self.check(size, band, cursor, (0, 0), [], {**lesser, (0, 2): -1}), True)
+        self.assertIs(self.check(size, band, cursor, (0, 0), [], {**lesser, (0, 1): -1, (0, 2): -1}), True)
+        self.refused(size, band, cursor, (0, 0), [], {**lesser, (0, 2): -2})
         self.refused(size, band, cursor, (0, 0), [], {**lesser, (0, 0): -1})
+        self.refused(size, band, cursor, (0, 2), [("tab",)], {**lesser, (0, 2): -1})
+        self.refused(size, band, cursor, (0, 2), [], {**lesser, (0, 2): -1})
+
+    def test_numbers_below_0_on_the_least_screens(self):
+        self.assertIs(self.check((1, 2), (0, 0), (0, 0), (0, 0), [], {(0, 0): 0, (0, 1): -1}), True)
+        self.refused((1, 2), (0, 0), (0, 0), (0, 0), [], {(0, 0): 0, (0, 1): -2})
+        self.refused((1, 2), (0, 0), (0, 0), (0, 1), [("tab",)], {(0, 0): 0, (0, 1): -1})
+        # No move leads behind the last column; so there the size alone speaks against -1.
+        self.refused((1, 1), (0, 0), (0, 1), (0, 0), [("back",)], {(0, 1): 0, (0, 0): -1})
+        self.assertIs(self.check((1, 1), (0, 0), (0, 1), (0, 0), [("back",)], {(0, 1): 0, (0, 0): 1}), True)
+
+    def test_numbers_that_count_back_from_the_place(self):
+        below = 0
+        for size in ((1, 3), (2, 2), (3, 2), (1, 12), (2, 9), (12, 1)):
+            band, places = (0, size[0] - 1), moves_model.places_of(size)
+            for cursor in moves_model.cursors_of(size)[::5]:
+                maps = {here: move_map(size, band, here) for here in {cursor, *places}}
+                for place in places[::3]:
+                    # Where it is further to the place than from the cursor, the number is below 0.
+                    numbers = {here: maps[cursor][place] - maps[here][place] for here in maps}
+                    below += min(numbers.values()) < 0
+                    moves = least_moves(size, band, cursor, place)
+                    self.assertIs(self.check(size, band, cursor, place, moves, numbers), True)
+                    for here in numbers:
+                        self.refused(size, band, cursor, place, moves, {**numbers, here: numbers[here] - 1})
+        self.assertGreater(below, 0)
+
+    def test_numbers_below_0_on_the_greatest_screen(self):
+        size, cursor = (12, 40), (11, 39)
+        # A move of one byte leads to the cursor from (11, 38), but none does from (3, 3).
+        numbers = {here: 0 if here == cursor else -1 for here in moves_model.places_of(size)}
+        self.assertIs(check_moves(size, (0, 11), cursor, cursor, [], numbers), True)
+        self.assertIs(check_moves(size, (0, 11), cursor, cursor, [], {**numbers, (3, 3): -2}), True)
+        self.assertIs(check_moves(size, (0, 11), cursor, cursor, [], {**numbers, (11, 38): -2}), False)
+        self.assertIs(check_moves(size, (0, 11), cursor, (11, 38), [("back",)], numbers), False)
 
     def test_the_number_of_the_cursor(self):
         size, band = (2, 3), (0, 1)

@@ -30,8 +30,6 @@ def check_moves(size, band, cursor, place, moves, numbers):
     """Tell if the numbers prove that these are least moves from a cursor to a place."""
     if not has_right_keys(size, cursor, numbers) or numbers[cursor] != 0:
         return False
-    if min(numbers.values()) < 0:
-        return False
     ground = Ground(size, band)
     if not (hold_for_go(ground, numbers) and hold_for_others(ground, numbers)):
         return False
